@@ -1,0 +1,1 @@
+"""Nearlords: houses in which the greater climbs."""

@@ -1,0 +1,163 @@
+"""What the test files share: asserting errors and time, and samples."""
+import itertools
+import random
+import signal
+import unittest
+
+from nearlords import errors
+from nearlords.orders import made_order
+
+# Numbers that are no places of anything, from far below to far above.
+NO_PLACES = (-10 ** 30, -17, -2, 16, 17, 10 ** 18 + 1, 10 ** 40)
+
+# Things of other forms, as a judge may be handed them for any argument.
+ODD_THINGS = (
+    (), "", "up", "012", "-1", 0, -1, 3, 10 ** 40, -10 ** 40,
+    ("",), ("0",), ("-1",), ((),), ((-1,),), (((-1,),),), ((0, 1),), ("up", 1),
+    (-1, "0"), (-1, (0,)), (-1, ()), ((-1, 0, 1),), (-1,) * 17, (-1,) * 9000,
+    (10 ** 40,), (-2,), (0,), (1, 0), (1,), (-1, 1), "x" * 9000,
+)
+
+
+def nested(deep):
+    """Return a tuple that is nested so deep."""
+    thing = (-1,)
+    for _ in range(deep - 1):
+        thing = (thing,)
+    return thing
+
+
+class Case(unittest.TestCase):
+    """A test case that can also assert refusals and times."""
+
+    def refused(self, name, what, function, *args, **named):
+        """Assert that the call raises just the error of this name and what."""
+        with self.assertRaises(errors.Refused) as caught:
+            function(*args, **named)
+        self.assertIs(type(caught.exception), getattr(errors, name))
+        self.assertEqual(caught.exception.what, what)
+        self.assertIs(type(caught.exception.what), type(what))
+
+    def same(self, found, expected):
+        """Assert that two values are equal and of one type."""
+        self.assertEqual(found, expected)
+        self.assertIs(type(found), type(expected))
+
+    def no_judge_raises(self, judge, count, good):
+        """Assert that a judge tells False of odd things in each argument's place.
+
+        good is a list of arguments that it judges right; count tells which
+        places of it may be filled with anything.
+        """
+        self.assertIs(judge(*good), True)
+        for at in count:
+            for odd in ODD_THINGS + (nested(50), (nested(49), -1)):
+                args = list(good)
+                args[at] = odd
+                if odd != good[at]:
+                    self.assertIs(judge(*args), False, (at, odd))
+
+
+class quick:
+    """A context that fails if what runs in it takes too many seconds."""
+
+    def __init__(self, seconds):
+        self.seconds = seconds
+
+    def __enter__(self):
+        signal.signal(signal.SIGALRM, self._late)
+        signal.setitimer(signal.ITIMER_REAL, self.seconds)
+
+    def __exit__(self, *told):
+        signal.setitimer(signal.ITIMER_REAL, 0)
+
+    def _late(self, *told):
+        raise AssertionError(f"this took more than {self.seconds} seconds")
+
+
+def pairs_of(order):
+    """Return the set of the pairs that an order tells."""
+    return {(x, y) for y in range(order.n) for x in order.lesser[y]}
+
+
+def is_transitive(pairs):
+    """Tell whether a set of pairs is an order."""
+    return all(x != z and (x, z) in pairs for x, y in pairs for w, z in pairs if w == y)
+
+
+_ORDERS = {}
+
+
+def all_orders(n):
+    """Return all orders of n places, up to 4."""
+    if n not in _ORDERS:
+        every = [(x, y) for x in range(n) for y in range(n) if x != y]
+        _ORDERS[n] = []
+        for mask in range(1 << len(every)):
+            pairs = {pair for k, pair in enumerate(every) if mask >> k & 1}
+            if is_transitive(pairs):
+                _ORDERS[n].append(made_order(n, tuple(sorted(pairs))))
+    return _ORDERS[n]
+
+
+_HOUSES = {}
+
+
+def all_houses(n):
+    """Return all houses of n places, ascending, up to 5."""
+    if n not in _HOUSES:
+        tuples = itertools.product(range(-1, n), repeat=n)
+        _HOUSES[n] = [parents for parents in tuples if climbs_out(parents)]
+    return _HOUSES[n]
+
+
+def climbs_out(parents):
+    """Tell whether one comes from each place to the door."""
+    for x in range(len(parents)):
+        seen = set()
+        while x != -1 and x not in seen:
+            seen.add(x)
+            x = parents[x]
+        if x != -1:
+            return False
+    return True
+
+
+def some_house(dice, n):
+    """Return a house of n places by chance."""
+    places = list(range(n))
+    dice.shuffle(places)
+    parents = [-1] * n
+    for k, x in enumerate(places):
+        parents[x] = ([-1] + places[:k])[dice.randrange(min(k + 1, dice.choice((2, 4, 17))))]
+    return tuple(parents)
+
+
+def deep_house(dice, n):
+    """Return a house of n places by chance, in which many stand deep."""
+    places = list(range(n))
+    dice.shuffle(places)
+    parents = [-1] * n
+    for k, x in enumerate(places[1:]):
+        parents[x] = places[max(0, k - dice.randrange(2))]
+    return tuple(parents)
+
+
+def some_order(dice, n):
+    """Return an order of n places by chance, of one of several kinds."""
+    row = list(range(n))
+    dice.shuffle(row)
+    often = dice.choice((0, 1, 3, 6, 9, 10))
+    pairs = {(row[j], row[k]) for j in range(n) for k in range(j + 1, n) if dice.randrange(10) < often}
+    for y in range(n):
+        for x in range(n):
+            for z in range(n):
+                if (x, y) in pairs and (y, z) in pairs:
+                    pairs.add((x, z))
+    return made_order(n, tuple(sorted(pairs)))
+
+
+def samples(many, n, seed=5):
+    """Return so many orders of n places with a house each, by chance."""
+    dice = random.Random(seed * 100 + n)
+    return [(some_order(dice, n), dice.choice((some_house, deep_house))(dice, n)) for _ in range(many)]

@@ -1,0 +1,55 @@
+"""The interface: names, files and parameters."""
+import ast
+import importlib
+import inspect
+import pathlib
+
+from tests.base import Case
+
+PACKAGE = pathlib.Path(__file__).resolve().parent.parent / "nearlords"
+
+INTERFACE = {
+    "shares": ("share(n, d)", "plus(a, b)", "times(a, b)", "mean(shares)", "poly_plus(a, b)", "poly_times(a, b)"),
+    "determinants": ("determinant(rows)",),
+    "orders": ("made_order(n, pairs)", "is_order(n, pairs)", "closed_order(n, pairs)", "less(order, x, y)"),
+    "ordermakers": ("chain(n)", "flat(n)", "ranked(numbers)", "dividing(numbers)", "setwise(rows)"),
+    "orderlooks": ("least_ones(order)", "greatest_ones(order)", "is_chain(order)", "row_of(order)",
+                   "rows_count(order)"),
+    "orderjoins": ("turned(order)", "kept(order, places)", "side(one, two)", "stacked(one, two)", "met(one, two)",
+                   "is_within(one, two)"),
+    "houses": ("made_house(parents)", "is_house(thing)"),
+    "houseroads": ("path(house, x)", "depth(house, x)", "children(house, x)", "beneath(house, x)",
+                   "meeting(house, x, y)", "ways(house, a, b)"),
+    "codes": ("code(house)", "house_of(n, numbers)"),
+}
+
+CLASSES = {
+    "errors": ("Refused", "BadSize", "BadPair", "NotOrder", "BadRank", "BadPlace", "BadParent", "Round", "BadDeed",
+               "BadRow", "BadCode", "BadCount", "NotJoined", "Joined", "Unlike", "IsLord", "TooMany", "BadPrice",
+               "BadWeight", "BadNarrow", "BadText", "NothingToUndo", "NothingToRedo"),
+    "orders": ("Order",),
+}
+
+
+def defined(module):
+    """Return the names that a file of the package itself defines."""
+    tree = ast.parse((PACKAGE / f"{module}.py").read_text())
+    return {node.name for node in tree.body if isinstance(node, (ast.FunctionDef, ast.ClassDef))}
+
+
+class Interface(Case):
+
+    def test_functions(self):
+        for module, lines in INTERFACE.items():
+            names = defined(module)
+            for line in lines:
+                name = line.partition("(")[0]
+                self.assertIn(name, names)
+                found = getattr(importlib.import_module(f"nearlords.{module}"), name)
+                self.assertEqual(f"{name}{inspect.signature(found)}", line)
+
+    def test_classes(self):
+        for module, names in CLASSES.items():
+            for name in names:
+                self.assertIn(name, defined(module))
+                self.assertIs(type(getattr(importlib.import_module(f"nearlords.{module}"), name)), type)
