@@ -7,6 +7,9 @@ import unittest
 from nearlords import errors
 from nearlords.orders import made_order
 
+# How many seconds one test may take.
+LONGEST = 120
+
 # Numbers that are no places of anything, from far below to far above.
 NO_PLACES = (-10 ** 30, -17, -2, 16, 17, 10 ** 18 + 1, 10 ** 40)
 
@@ -27,8 +30,32 @@ def nested(deep):
     return thing
 
 
+# What is no house of an order of 3 places, with the error that comes first.
+BAD_HOUSES = (
+    ("BadSize", 0, ()), ("BadSize", 17, (-1,) * 17), ("BadSize", 18, (5,) * 18), ("BadParent", 0, (0, -1, -1)),
+    ("BadParent", 1, (-1, 1, 0)), ("BadParent", 2, (1, 0, 3)), ("BadParent", 2, (-1, -1, -2)),
+    ("BadParent", 0, (10 ** 30, -1, -1)), ("Round", 0, (1, 0, -1)), ("Round", 1, (-1, 2, 1)), ("Round", 0, (1, 2, 0)),
+    ("Unlike", 1, (-1,)), ("Unlike", 2, (-1, 0)), ("Unlike", 4, (-1, 0, 1, 2)), ("Unlike", 16, (-1,) * 16),
+    ("BadParent", 1, (-1, 9)), ("Round", 0, (1, 0)), ("Round", 2, (-1, -1, 3, 2)),
+)
+
+
 class Case(unittest.TestCase):
     """A test case that can also assert refusals and times."""
+
+    def setUp(self):
+        # A program that never comes to an end must fail, too.
+        signal.signal(signal.SIGALRM, self.late)
+        signal.setitimer(signal.ITIMER_REAL, LONGEST)
+        self.addCleanup(signal.setitimer, signal.ITIMER_REAL, 0)
+
+    def late(self, *told):
+        self.fail(f"this took more than {LONGEST} seconds")
+
+    def refuses_bad_houses(self, call):
+        """Assert that a call with one house refuses what is none of 3 places."""
+        for name, what, bad in BAD_HOUSES:
+            self.refused(name, what, call, bad)
 
     def refused(self, name, what, function, *args, **named):
         """Assert that the call raises just the error of this name and what."""
@@ -65,11 +92,12 @@ class quick:
         self.seconds = seconds
 
     def __enter__(self):
-        signal.signal(signal.SIGALRM, self._late)
+        self.before = signal.signal(signal.SIGALRM, self._late)
         signal.setitimer(signal.ITIMER_REAL, self.seconds)
 
     def __exit__(self, *told):
-        signal.setitimer(signal.ITIMER_REAL, 0)
+        signal.signal(signal.SIGALRM, self.before)
+        signal.setitimer(signal.ITIMER_REAL, LONGEST)
 
     def _late(self, *told):
         raise AssertionError(f"this took more than {self.seconds} seconds")

@@ -148,7 +148,7 @@ class Form(Case):
                 self.assertNotIn(bound, every, name)
                 self.assertNotIn(bound, WORDS, name)
             self.assertEqual((imported | classes) & set(stored + args), set(), name)
-            self.assertEqual(set(functions) & set(stored + args) - {"order", "house", "lords"}, set(), name)
+            self.assertEqual(set(functions) & set(stored + args), set(), name)
             for node in ast.walk(tree):
                 if isinstance(node, ast.Name) and isinstance(node.ctx, ast.Load) and node.id in every:
                     self.assertIn(node.id, BUILTINS, name)

@@ -21,6 +21,17 @@ INTERFACE = {
     "houseroads": ("path(house, x)", "depth(house, x)", "children(house, x)", "beneath(house, x)",
                    "meeting(house, x, y)", "ways(house, a, b)"),
     "codes": ("code(house)", "house_of(n, numbers)"),
+    "housecounts": ("house_count(n)", "nth_house(n, k)", "house_rank(house)", "door_count(n, k)"),
+    "deeds": ("offers(order, house)", "back_of(house, deed)"),
+    "done": ("done(order, house, deed)",),
+    "runs": ("walked(order, house, run)", "turned_run(order, house, run)", "ups(run)"),
+    "judged": ("run_right(order, house, run, goal)",),
+    "lords": ("lords(order, house)",),
+    "high": ("is_high(order, house)",),
+    "climbed": ("climb_run(order, house)", "climbed(order, house)"),
+    "joined": ("joined(order, one, two)", "run_between(order, one, two)"),
+    "admitted": ("admitted(order, house, x)", "in_class(order, house, other)"),
+    "boxes": ("box_of(order, house)", "size(box)", "holds(box, house)"),
 }
 
 CLASSES = {
@@ -28,6 +39,7 @@ CLASSES = {
                "BadRow", "BadCode", "BadCount", "NotJoined", "Joined", "Unlike", "IsLord", "TooMany", "BadPrice",
                "BadWeight", "BadNarrow", "BadText", "NothingToUndo", "NothingToRedo"),
     "orders": ("Order",),
+    "boxes": ("Box",),
 }
 
 

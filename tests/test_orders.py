@@ -82,7 +82,7 @@ class MadeOrders(Case):
             self.refused("BadPair", 2, make, 3, ((0, 1), (0, 2), (-1, 0)))
             self.refused("BadPair", 0, make, 1, ((0, 1),))
             self.refused("BadPair", 0, make, 1, ((0, 0),))
-            for bad in NO_PLACES:
+            for bad in NO_PLACES + (-1,):
                 self.refused("BadPair", 1, make, 16, ((0, 1), (bad, 2)))
                 self.refused("BadPair", 1, make, 16, ((0, 1), (2, bad)))
                 self.refused("BadPair", 0, make, 16, ((bad, bad),))
