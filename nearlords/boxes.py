@@ -1,5 +1,6 @@
 """Boxes: sets of houses told by a row of parents for each place."""
 from nearlords.admitted import admitted_by
+from nearlords.checks import DOOR
 from nearlords.climbed import climbed
 
 
@@ -35,3 +36,17 @@ def holds(box, house):
     if not isinstance(house, tuple) or len(house) != len(box.rows):
         return False
     return all([house[x] in row for x, row in enumerate(box.rows)])
+
+
+def with_rows(box, rows):
+    """Return the box of the same class that has other rows."""
+    return Box(box.order, box.lords, rows)
+
+
+def door_and_places(box):
+    """Return the door, then all places, each behind the parents of its row."""
+    line = [DOOR]
+    while len(line) <= box.order.n:
+        left = [x for x in range(box.order.n) if x not in line]
+        line.extend([x for x in left if all([parent in line for parent in box.rows[x]])])
+    return tuple(line)

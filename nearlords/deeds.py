@@ -7,9 +7,13 @@ from nearlords.houses import check_house, made_house
 def offers(order, house):
     """Return all deeds that are let, ascending."""
     check_house(order, house)
-    n = order.n
-    downs = [("down", x, q) for x in range(n) for q in range(n)]
-    ups = [("up", x) for x in range(n)]
+    return let_deeds(order, house)
+
+
+def let_deeds(order, house):
+    """Return all deeds that are let on a house of an order, ascending."""
+    downs = [("down", x, q) for x in range(order.n) for q in order.lesser[x]]
+    ups = [("up", x) for x in range(order.n)]
     return tuple([deed for deed in downs + ups if is_let(order, house, deed)])
 
 

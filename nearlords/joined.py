@@ -12,6 +12,11 @@ def joined(order, one, two):
 
 def run_between(order, one, two):
     """Return the run from one house by way of the form to the other one."""
+    check_joined(order, one, two)
+    return climb_run(order, one) + turned_run(order, two, climb_run(order, two))
+
+
+def check_joined(order, one, two):
+    """Refuse what are no houses of an order, then what are not joined."""
     if not joined(order, one, two):
         raise NotJoined(0)
-    return climb_run(order, one) + turned_run(order, two, climb_run(order, two))

@@ -1,4 +1,5 @@
 """Plain answers to compare with, made from the words of the document."""
+import itertools
 from collections import deque
 
 from tests.base import pairs_of
@@ -87,3 +88,75 @@ def steps_of(order, house, x):
         at = form[at]
         many += 1
     return many
+
+
+def ups_from(order, house):
+    """Return the houses behind one up each."""
+    return [after(house, deed) for deed in lets(order, house) if deed[0] == "up"]
+
+
+def up_reach(order, house):
+    """Return the set of all houses to which runs of ups lead."""
+    found = {house}
+    waiting = [house]
+    while waiting:
+        for other in ups_from(order, waiting.pop()):
+            if other not in found:
+                found.add(other)
+                waiting.append(other)
+    return found
+
+
+def up_runs(order, house, known):
+    """Return the least length, how many so short, the greatest length of all runs of ups to the end."""
+    if house not in known:
+        nexts = [up_runs(order, other, known) for other in ups_from(order, house)]
+        least = min((one[0] + 1 for one in nexts), default=0)
+        many = sum(one[1] for one in nexts if one[0] + 1 == least) if nexts else 1
+        known[house] = (least, many, max((one[2] + 1 for one in nexts), default=0))
+    return known[house]
+
+
+def distances(order, house):
+    """Return for each house of the class how many deeds it is away."""
+    far = {house: 0}
+    waiting = deque([house])
+    while waiting:
+        one = waiting.popleft()
+        for deed in lets(order, one):
+            other = after(one, deed)
+            if other not in far:
+                far[other] = far[one] + 1
+                waiting.append(other)
+    return far
+
+
+def climbings(order, house):
+    """Return the single climbings, each with the set of those that it waits for at once or through others."""
+    form = lords_of(order, house)
+    many = [steps_of(order, house, x) for x in range(len(house))]
+    waits = {}
+    for x in range(len(house)):
+        left = house[x]
+        for i in range(1, many[x] + 1):
+            waits[x, i] = {(left, j) for j in range(1, many[left] + 1)} | ({(x, i - 1)} if i > 1 else set())
+            left = form[left]
+    return waits
+
+
+def rows_of_climbings(waits, done=frozenset()):
+    """Return in how many rows each climbing stands behind those that it waits for."""
+    if len(done) == len(waits):
+        return 1
+    ready = [one for one, needs in waits.items() if one not in done and needs <= done]
+    return sum(rows_of_climbings(waits, done | {one}) for one in ready)
+
+
+def longest_waiting(waits, one):
+    """Return how many climbings there are in a longest row of waiting that ends with one."""
+    return 1 + max((longest_waiting(waits, other) for other in waits[one]), default=0)
+
+
+def houses_in(box):
+    """Return all houses of a box, ascending."""
+    return sorted(itertools.product(*box.rows))

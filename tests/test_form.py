@@ -7,7 +7,8 @@ import warnings
 from tests.base import Case
 
 PACKAGE = pathlib.Path(__file__).resolve().parent.parent / "nearlords"
-LIBRARY = {"heapq": {"heappush", "heappop"}, "math": {"gcd", "lcm", "isqrt", "comb", "perm", "factorial"}}
+LIBRARY = {"heapq": {"heappush", "heappop"}, "math": {"gcd", "lcm", "isqrt", "comb", "perm", "factorial"},
+           "itertools": {"combinations"}}
 BUILTINS = {
     "len", "range", "enumerate", "zip", "min", "max", "sum", "abs", "sorted", "reversed", "int", "str", "bool",
     "list", "tuple", "dict", "set", "isinstance", "ord", "repr", "any", "all", "divmod", "ValueError",
