@@ -1,7 +1,6 @@
 """Heaps: boxes of one class without common houses."""
 from nearlords.abovechances import above_chance
 from nearlords.boxes import holds, size, with_rows
-from nearlords.checks import check_place
 from nearlords.depthchances import mean_depth
 from nearlords.errors import BadCount
 from nearlords.narrow import both_rows, check_one_class
@@ -20,13 +19,11 @@ def heap_holds(heap, house):
 
 def heap_mean_depth(heap, x):
     """Return the mean of the depth of x over all houses of a heap."""
-    _check_in_heap(heap, (x,))
     return _mean_by_size(heap, [mean_depth(box, x) for box in heap])
 
 
 def heap_above_chance(heap, x, y):
     """Return the chance that y stands above x in a house of a heap."""
-    _check_in_heap(heap, (x, y))
     return _mean_by_size(heap, [above_chance(box, x, y) for box in heap])
 
 
@@ -43,16 +40,10 @@ def less_box(box, other):
     return tuple(heap)
 
 
-def _check_in_heap(heap, places):
-    """Refuse a heap without boxes, then what is no place of its boxes."""
-    if not heap:
-        raise BadCount(0)
-    for x in places:
-        check_place(heap[0].order.n, x)
-
-
 def _mean_by_size(heap, shares):
     """Return the mean of a share for each box, weighed by the boxes' sizes."""
+    if not heap:
+        raise BadCount(0)
     total = (0, 1)
     for box, one in zip(heap, shares):
         total = plus(total, times((size(box), 1), one))

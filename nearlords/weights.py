@@ -29,8 +29,9 @@ def drawn_by(box, table, digits):
 
 def _parent_at(row, figure):
     """Return the first parent at which the sum so far is above a figure."""
+    reached = []
     for parent, number in row:
         figure -= number
         if figure < 0:
-            return parent
-    return None
+            reached.append(parent)
+    return reached[0]

@@ -39,6 +39,22 @@ BAD_HOUSES = (
     ("BadParent", 1, (-1, 9)), ("Round", 0, (1, 0)), ("Round", 2, (-1, -1, 3, 2)),
 )
 
+ROW = (1, 1, 1, 1)
+
+# What is no table for 3 places, with the error that comes first.
+BAD_TABLES = (
+    ("BadPrice", 0, ()), ("BadPrice", 2, (ROW, ROW)), ("BadPrice", 4, (ROW,) * 4), ("BadPrice", 1, (ROW,)),
+    ("BadPrice", 17, (ROW,) * 17), ("BadPrice", 2, ((), ROW)), ("BadPrice", 4, ((-1,),) * 4),
+    ("BadPrice", (0,), ((), ROW, ROW)), ("BadPrice", (1,), (ROW, (1, 1, 1), ROW)),
+    ("BadPrice", (2,), (ROW, ROW, (1, 1, 1, 1, 1))), ("BadPrice", (0,), ((1, 1, 1), ROW, (1, 1, 1))),
+    ("BadPrice", (1,), (ROW, (1, 1, 1, -1), ROW)), ("BadPrice", (2,), (ROW, ROW, (-1, 1, 1, 1))),
+    ("BadPrice", (0,), ((1, 10 ** 9 + 1, 1, 1), ROW, ROW)), ("BadPrice", (2,), (ROW, ROW, (1, 1, 10 ** 40, 1))),
+    ("BadPrice", (1,), (ROW, (1, -10 ** 40, 1, 1), ())), ("BadPrice", (1,), (ROW, (1,) * 17, (-1,) * 4)),
+    ("BadPrice", (0,), ((1, 1, 1, -1), (1, 1), ROW)), ("BadPrice", (2,), (ROW, ROW, ())),
+    # A place at which all numbers are 0 comes later than a bad row.
+    ("BadPrice", (2,), ((0, 0, 0, 0), ROW, (1, 1, 1, -1))), ("BadPrice", 2, ((0, 0, 0, 0), ROW)),
+)
+
 
 class Case(unittest.TestCase):
     """A test case that can also assert refusals and times."""
@@ -55,6 +71,11 @@ class Case(unittest.TestCase):
     def refuses_bad_houses(self, call):
         """Assert that a call with one house refuses what is none of 3 places."""
         for name, what, bad in BAD_HOUSES:
+            self.refused(name, what, call, bad)
+
+    def refuses_bad_tables(self, call):
+        """Assert that a call with one table refuses what is none for 3 places."""
+        for name, what, bad in BAD_TABLES:
             self.refused(name, what, call, bad)
 
     def refused(self, name, what, function, *args, **named):

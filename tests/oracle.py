@@ -1,6 +1,7 @@
 """Plain answers to compare with, made from the words of the document."""
 import itertools
 from collections import deque
+from fractions import Fraction
 
 from tests.base import pairs_of
 
@@ -160,3 +161,40 @@ def longest_waiting(waits, one):
 def houses_in(box):
     """Return all houses of a box, ascending."""
     return sorted(itertools.product(*box.rows))
+
+
+def weighed_houses(box, table):
+    """Return the houses of a box with a weight above 0, each with this weight."""
+    found = []
+    for house in houses_in(box):
+        weight = 1
+        if table is not None:
+            for x, parent in enumerate(house):
+                weight *= table[x][parent + 1]
+        if weight > 0:
+            found.append((house, weight))
+    return found
+
+
+def mean_of(weighed, worth):
+    """Return the mean of what a function tells of weighed houses, as a share."""
+    whole = sum(weight for _, weight in weighed)
+    return pair(Fraction(sum(weight * worth(house) for house, weight in weighed), whole))
+
+
+def pair(fraction):
+    """Return the share of a fraction."""
+    return (fraction.numerator, fraction.denominator)
+
+
+def meet_of(house, x, y):
+    """Return the nearest that is x or above x and y or above y."""
+    line = [y] + above(house, y) + [-1]
+    return next(p for p in [x] + above(house, x) + [-1] if p in line)
+
+
+def ways_of(house, a, b):
+    """Return the steps from a up to where they meet and down to b."""
+    lines = [([p] + above(house, p) if p != -1 else []) + [-1] for p in (a, b)]
+    where = next(p for p in lines[0] if p in lines[1])
+    return lines[0].index(where) + lines[1].index(where)
