@@ -153,11 +153,46 @@ _HOUSES = {}
 
 
 def all_houses(n):
-    """Return all houses of n places, ascending, up to 5."""
+    """Return all houses of n places, ascending, up to 6."""
     if n not in _HOUSES:
         tuples = itertools.product(range(-1, n), repeat=n)
         _HOUSES[n] = [parents for parents in tuples if climbs_out(parents)]
     return _HOUSES[n]
+
+
+_KINDS = {}
+
+
+def kinds_of_orders():
+    """Return orders of 1 to 6 places of every kind, so few that all houses of each can be listed."""
+    if "few" not in _KINDS:
+        chains = [made_order(n, tuple(itertools.combinations(range(n), 2))) for n in (4, 5, 6)]
+        flats = [made_order(n, ()) for n in (4, 5, 6)]
+        _KINDS["few"] = [order for n in (1, 2, 3) for order in all_orders(n)] + all_orders(4)[::12] + chains + flats
+        _KINDS["few"] += [order for n, many in ((5, 9), (6, 3)) for order, _ in samples(many, n, seed=8)]
+    return _KINDS["few"]
+
+
+def pairs_of_orders():
+    """Return pairs of an order and one that is within it, of 1 to 6 places."""
+    if "pairs" not in _KINDS:
+        dice = random.Random(31)
+        found = [(order, under) for n in (1, 2, 3) for order in all_orders(n) for under in all_orders(n)
+                 if pairs_of(under) <= pairs_of(order)]
+        for n, many in ((4, 60), (5, 20), (6, 12)):
+            for order, _ in samples(many, n, seed=9):
+                both = pairs_of(order) & pairs_of(some_order(dice, n))
+                found += [(order, made_order(n, tuple(both))), (order, order), (order, made_order(n, ()))]
+        _KINDS["pairs"] = found
+    return _KINDS["pairs"]
+
+
+def big_orders():
+    """Return orders of 16 places: a chain, a flat one, ranks, and some by chance."""
+    ranks = [(x, y) for x in range(16) for y in range(16) if x // 3 < y // 3]
+    chain_pairs = tuple(itertools.combinations(range(16), 2))
+    firsts = [made_order(16, chain_pairs), made_order(16, ()), made_order(16, tuple(ranks))]
+    return firsts + [order for order, _ in samples(8, 16, seed=10)]
 
 
 def climbs_out(parents):

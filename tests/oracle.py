@@ -68,6 +68,27 @@ def lords_of(order, house):
     return tuple(next((p for p in above(house, x) if (p, x) not in pairs), -1) for x in range(len(house)))
 
 
+def forms_of(order, houses):
+    """Return those of some houses in which no place has a parent less than it."""
+    pairs = pairs_of(order)
+    return [house for house in houses if not any((p, x) in pairs for x, p in enumerate(house))]
+
+
+def rows_of(order, house):
+    """Return the rows of the box of the class of a house."""
+    return tuple(admitted_to(order, house, x) for x in range(len(house)))
+
+
+def closed(pairs):
+    """Return the set of all pairs that follow from some pairs, these included."""
+    found = set(pairs)
+    more = True
+    while more:
+        more = {(x, z) for x, y in found for w, z in found if y == w} - found
+        found |= more
+    return found
+
+
 def admitted_to(order, house, x):
     """Return the parents admitted to x, found by parents in the house."""
     pairs = pairs_of(order)

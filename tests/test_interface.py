@@ -57,6 +57,17 @@ INTERFACE = {
               "heap_above_chance(heap, x, y)", "less_box(box, other)"),
     "abovepaths": ("above_heap(box, x, y)",),
     "upcounts": ("ups_counts(box)", "climbers_counts(box)", "mean_fewest(box)", "mean_most(box)"),
+    "classcounts": ("class_count(order)",),
+    "nthclass": ("nth_class(order, k)", "class_rank(order, house)"),
+    "doorclasses": ("door_classes(order)",),
+    "allweighed": ("all_weighed(order, table)", "house_weighed(n, table)"),
+    "nested": ("forms_box(box, under)", "classes_within(order, under, house)"),
+    "strikes": ("strike(order, house, z)",),
+    "renames": ("renamed(order, house, places)",),
+    "cuts": ("cut(order, house, x)", "without_bough(order, house, x)"),
+    "sets": ("set_under(one, first, two, second, p)",),
+    "orderchanges": ("covers(order)", "grown(order, x, y)", "shrunk(order, x, y)", "changed(order, other, house)",
+                     "parted_forms(order, under, house)"),
 }
 
 CLASSES = {
