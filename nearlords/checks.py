@@ -1,5 +1,5 @@
-"""What several files ask of numbers, places and rows of them."""
-from nearlords.errors import BadPlace, BadSize
+"""What several files ask of numbers, places, rows of them and their texts."""
+from nearlords.errors import BadPlace, BadSize, BadText
 
 DOOR = -1
 MOST_PLACES = 16
@@ -45,3 +45,46 @@ def check_places(n, places):
         if not before < p < n:
             raise BadPlace(p)
         before = p
+
+
+def word_of(place):
+    """Return the word of a place or of the door."""
+    return "-" if place == DOOR else str(place)
+
+
+def place_told(word, choices):
+    """Return the one of some choices that a word tells, or None."""
+    for place in choices:
+        if word == word_of(place):
+            return place
+    return None
+
+
+def row_told(words, choices):
+    """Return the ascending row of some choices that words tell, or None."""
+    row = [place_told(word, choices) for word in words]
+    return None if None in row or not is_ascending(row) else tuple(row)
+
+
+def head_told(row, word):
+    """Return the number of places that a row tells behind a word, or None."""
+    words = row.split(" ")
+    if len(words) != 2 or words[0] != word:
+        return None
+    return place_told(words[1], range(1, MOST_PLACES + 1))
+
+
+def rows_told(rows, first, many, told):
+    """Return what so many rows of a text tell, from the first on to its end.
+
+    told(words, k) is what the words of the k-th of these rows tell, or None.
+    """
+    found = []
+    for k in range(many):
+        thing = told(rows[first + k].split(" "), k) if first + k < len(rows) else None
+        if thing is None:
+            raise BadText(first + k)
+        found.append(thing)
+    if len(rows) > first + many:
+        raise BadText(first + many)
+    return tuple(found)

@@ -13,7 +13,9 @@ BUILTINS = {
     "len", "range", "enumerate", "zip", "min", "max", "sum", "abs", "sorted", "reversed", "int", "str", "bool",
     "list", "tuple", "dict", "set", "isinstance", "ord", "repr", "any", "all", "divmod", "ValueError",
 }
-METHODS = {"append", "extend", "remove", "pop", "items", "values", "keys", "get", "index", "count", "insert", "copy"}
+METHODS = {"append", "extend", "remove", "pop", "items", "values", "keys", "get", "index", "count", "insert", "copy",
+           "split", "join", "replace"}
+OWN_ERRORS = {"Refused", "NotOrder", "Round"}
 WORDS = ("type", "enum", "typing", "eval", "exec", "open", "input", "register", "elements", "law")
 STATEMENTS = (
     ast.FunctionDef, ast.ClassDef, ast.Return, ast.Assign, ast.AugAssign, ast.For, ast.While, ast.If, ast.Raise,
@@ -34,6 +36,11 @@ def trees():
 def nodes(kind):
     """Return all nodes of a kind with the name of their module."""
     return [(name, node) for name, tree in trees() for node in ast.walk(tree) if isinstance(node, kind)]
+
+
+def methods(node):
+    """Return the methods of a class."""
+    return [part for part in node.body if isinstance(part, ast.FunctionDef)]
 
 
 def called(node):
@@ -144,7 +151,7 @@ class Form(Case):
             stored = [node.id for node in ast.walk(tree) if isinstance(node, ast.Name)
                       and not isinstance(node.ctx, ast.Load)]
             args = [node.arg for node in ast.walk(tree) if isinstance(node, ast.arg)]
-            functions = [node.name for node in ast.walk(tree) if isinstance(node, ast.FunctionDef)]
+            functions = [node.name for node in tree.body if isinstance(node, ast.FunctionDef)]
             for bound in stored + args + functions + sorted(classes):
                 self.assertNotIn(bound, every, name)
                 self.assertNotIn(bound, WORDS, name)
@@ -166,22 +173,47 @@ class Form(Case):
 
     def test_methods_of_builtin_values(self):
         attributes = {node.attr for _, node in nodes(ast.Attribute) if isinstance(node.ctx, ast.Store)}
+        own = {method.name for _, node in nodes(ast.ClassDef) for method in methods(node)}
+        self.assertEqual(own & METHODS, set())
         for name, node in nodes(ast.Call):
             if isinstance(node.func, ast.Attribute):
-                self.assertIn(node.func.attr, METHODS, (name, node.lineno))
+                self.assertIn(node.func.attr, METHODS | own, (name, node.lineno))
         for name, node in nodes(ast.Attribute):
-            self.assertIn(node.attr, METHODS | attributes, (name, node.lineno))
+            self.assertIn(node.attr, METHODS | attributes | own, (name, node.lineno))
 
     def test_handlers_name_own_errors(self):
         for name, node in nodes(ast.ExceptHandler):
-            self.assertEqual(node.type.id, "Refused", name)
+            self.assertIn(node.type.id, OWN_ERRORS, name)
         for name, node in nodes(ast.Raise):
             self.assertIsInstance(node.exc, ast.Call, name)
 
-    def test_equality_is_of_the_one_form(self):
+    def test_classes(self):
         for name, node in nodes(ast.ClassDef):
-            for method in node.body:
-                if isinstance(method, ast.FunctionDef) and method.name != "__init__":
-                    self.assertEqual(method.name, "__eq__", name)
+            attributes = {part.attr for part in ast.walk(node) if isinstance(part, ast.Attribute)
+                          and isinstance(part.ctx, ast.Store)}
+            self.assertEqual(attributes & {method.name for method in methods(node)}, set(), name)
+            for method in methods(node):
+                if method.name.startswith("__"):
+                    self.assertIn(method.name, ("__init__", "__eq__"), name)
+                if method.name == "__eq__":
                     self.assertEqual(len(method.body), 1)
                     self.assertTrue(ast.unparse(method.body[0]).startswith(f"return isinstance(other, {node.name})"))
+                if method.name == "__init__":
+                    self.assertEqual([part for part in ast.walk(method) if isinstance(part, ast.Return)], [])
+
+    def test_lambdas_and_nested_functions(self):
+        for name, node in nodes(ast.FunctionDef):
+            inner = [part for part in ast.walk(node) if isinstance(part, ast.FunctionDef) and part is not node]
+            self.assertEqual(inner, [], (name, node.name))
+        lines = [(name, node.lineno) for name, node in nodes(ast.Lambda)]
+        self.assertEqual(len(lines), len(set(lines)))
+
+    def test_tables_at_module_level_are_only_read(self):
+        for name, tree in trees():
+            for table in [t.id for n in tree.body if isinstance(n, ast.Assign) and isinstance(n.value, ast.Dict)
+                          for t in n.targets]:
+                reads = [node for node in ast.walk(tree) if isinstance(node, ast.Attribute)
+                         and isinstance(node.value, ast.Name) and node.value.id == table]
+                uses = [node for node in ast.walk(tree) if isinstance(node, ast.Name) and node.id == table]
+                self.assertEqual({node.attr for node in reads}, {"get"}, name)
+                self.assertEqual(len(uses), len(reads) + 1, name)

@@ -68,6 +68,17 @@ INTERFACE = {
     "sets": ("set_under(one, first, two, second, p)",),
     "orderchanges": ("covers(order)", "grown(order, x, y)", "shrunk(order, x, y)", "changed(order, other, house)",
                      "parted_forms(order, under, house)"),
+    "histories": ("deeds_between(order, houses)", "history_right(order, houses)", "shortened(order, houses)"),
+    "nopapers": ("no_paper(order, one, two)", "no_right(order, one, two, paper)", "no_climb(order, one, other)",
+                 "no_climb_right(order, one, other, x, p)"),
+    "neverpapers": ("never_paper(order, house, x, y)", "never_right(order, house, x, y, row)"),
+    "ordertext": ("order_text(order)", "order_of(text)"),
+    "housetext": ("house_text(house)", "house_of_text(text)"),
+    "tabletext": ("table_text(table)", "table_of(text)"),
+    "boxtext": ("box_text(box)", "box_of_text(order, house, text)"),
+    "runtext": ("run_text(run)", "run_of(text)"),
+    "floorasks": ("can_go_home(floor)", "way_home(floor)", "why_not(floor)", "kin(floor)", "choices(floor, x)"),
+    "saysfloor": ("answer(floor, row)", "asked(floor, row)"),
 }
 
 CLASSES = {
@@ -76,7 +87,11 @@ CLASSES = {
                "BadWeight", "BadNarrow", "BadText", "NothingToUndo", "NothingToRedo"),
     "orders": ("Order",),
     "boxes": ("Box",),
+    "floor": ("Floor",),
 }
+
+FLOOR = ("order(self)", "house(self)", "marked(self)", "record(self)", "up(self, x)", "down(self, x, q)",
+         "relate(self, x, y)", "graft(self, x, p)", "mark(self)", "undo(self)", "redo(self)")
 
 
 def defined(module):
@@ -101,3 +116,16 @@ class Interface(Case):
             for name in names:
                 self.assertIn(name, defined(module))
                 self.assertIs(type(getattr(importlib.import_module(f"nearlords.{module}"), name)), type)
+
+    def test_methods_of_the_floor(self):
+        floor = importlib.import_module("nearlords.floor").Floor
+        self.assertEqual(f"Floor{inspect.signature(floor)}", "Floor(order, house)")
+        for line in FLOOR:
+            name = line.partition("(")[0]
+            self.assertIn(name, vars(floor))
+            self.assertEqual(f"{name}{inspect.signature(vars(floor)[name])}", line)
+
+    def test_each_file_of_the_document(self):
+        listed = set(INTERFACE) | set(CLASSES)
+        self.assertEqual(listed - {path.stem for path in PACKAGE.glob("*.py")}, set())
+        self.assertEqual({path.stem for path in PACKAGE.glob("*.py")} - listed, {"__init__", "checks"})
