@@ -3,12 +3,12 @@ from nearlords.deeds import let_deeds, moved
 from nearlords.errors import BadCount, BadRow, Refused, TooMany
 from nearlords.houses import check_house, is_house_of
 
-MOST_STEPS = 300
+MOST_HOUSES = 300
 
 
 def deeds_between(order, houses):
     """Return the run of the deeds of all steps."""
-    if len(houses) > MOST_STEPS:
+    if len(houses) > MOST_HOUSES:
         raise TooMany(len(houses))
     if not houses:
         raise BadCount(0)
