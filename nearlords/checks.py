@@ -71,7 +71,7 @@ def head_told(row, word):
     words = row.split(" ")
     if len(words) != 2 or words[0] != word:
         return None
-    return place_told(words[1], range(1, MOST_PLACES + 1))
+    return place_told(words[1], list(range(1, MOST_PLACES + 1)))
 
 
 def rows_told(rows, first, many, told):

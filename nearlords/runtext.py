@@ -29,5 +29,5 @@ def _check_length(rows):
 
 def _deed_told(words):
     """Return the deed that words tell, or None."""
-    deed = (words[0],) + tuple([place_told(word, range(MOST_PLACES)) for word in words[1:]])
+    deed = (words[0],) + tuple([place_told(word, list(range(MOST_PLACES))) for word in words[1:]])
     return deed if is_deed(deed) else None

@@ -47,7 +47,7 @@ def _numbers_of(row, form):
         raise BadRow(row)
     numbers = []
     for word, sign in zip(words, form):
-        number = place_told(word, range(DOOR if sign == "p" else 0, MOST_PLACES))
+        number = place_told(word, list(range(DOOR if sign == "p" else 0, MOST_PLACES)))
         if number is None:
             raise BadRow(row)
         numbers.append(number)

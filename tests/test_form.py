@@ -15,6 +15,12 @@ BUILTINS = {
 }
 METHODS = {"append", "extend", "remove", "pop", "items", "values", "keys", "get", "index", "count", "insert", "copy",
            "split", "join", "replace"}
+# What L23 has walked on the spot: makers and views, and the calls that walk their first argument.
+MAKERS = {"range", "zip", "enumerate", "reversed"}
+VIEWS = {"items", "keys", "values"}
+WALKERS = {"list", "tuple", "dict", "sorted", "sum", "any", "all", "enumerate", "zip", "min", "max", "combinations"}
+# Where L23 lets some of them stand without being walked.
+LET = {"len": {"range", "items"}, "reversed": {"range"}, "in": {"range", "keys"}}
 OWN_ERRORS = {"Refused", "NotOrder", "Round"}
 WORDS = ("type", "enum", "typing", "eval", "exec", "open", "input", "register", "elements", "law")
 STATEMENTS = (
@@ -46,6 +52,41 @@ def methods(node):
 def called(node):
     """Return the bare name that a call calls, or None."""
     return node.func.id if isinstance(node.func, ast.Name) else None
+
+
+def maker(node):
+    """Return the name of the maker or view that a node calls, or None."""
+    if not isinstance(node, ast.Call):
+        return None
+    if isinstance(node.func, ast.Attribute):
+        return node.func.attr if node.func.attr in VIEWS else None
+    return called(node) if called(node) in MAKERS else None
+
+
+def walked_by_call(node):
+    """Return what a call walks or may have as L23 tells, in a list of at most one."""
+    first = node.args[:1]
+    if isinstance(node.func, ast.Attribute):
+        return first if node.func.attr == "join" and isinstance(node.func.value, ast.Constant) else []
+    if called(node) in ("min", "max") and len(node.args) > 1:
+        return []
+    return [part for part in first if called(node) in WALKERS or maker(part) in LET.get(called(node), ())]
+
+
+def walked(node):
+    """Return the nodes that one node walks on the spot, or may have as L23 tells."""
+    if isinstance(node, (ast.For, ast.comprehension)):
+        return [node.iter]
+    if isinstance(node, ast.Compare):
+        return [right for sign, right in zip(node.ops, node.comparators)
+                if isinstance(sign, (ast.In, ast.NotIn)) and maker(right) in LET["in"]]
+    return walked_by_call(node) if isinstance(node, ast.Call) else []
+
+
+def rows_not_walked(tree):
+    """Return the rows of a tree in which a range, a zip or their like is not walked on the spot."""
+    held = [part for node in ast.walk(tree) for part in walked(node)]
+    return sorted({node.lineno for node in ast.walk(tree) if maker(node) and node not in held})
 
 
 class Form(Case):
@@ -142,6 +183,30 @@ class Form(Case):
                 self.assertNotIsInstance(node, (ast.Set, ast.SetComp))
                 if isinstance(node, ast.Call) and called(node) == "set":
                     self.assertIn(node, held, (name, node.lineno))
+
+    def test_ranges_are_walked_on_the_spot(self):
+        for name, tree in trees():
+            self.assertEqual(rows_not_walked(tree), [], name)
+
+    def test_ranges_handed_on_are_found(self):
+        for row in ("return place_told(words[1], range(1, MOST + 1))", "told(range(3))", "told(choices=range(3))",
+                    "deed = (up,) + tuple([place_told(word, range(MOST)) for word in words[1:]])",
+                    "number = place_told(word, range(DOOR if sign == 'p' else 0, MOST))",
+                    "row = range(3)", "rows = [range(3)]", "floor.told(range(3))", "return range(3)", "a, b = range(2)",
+                    "told(zip(a, b))", "told(enumerate(a))", "told(reversed(a))", "told(d.items())", "told(d.keys())",
+                    "told(d.values())", "a = b == range(3)", "k = max(0, range(3))", "k = len(zip(a, b))",
+                    "k = reversed(d.items())", "for x in told(range(3)): pass", "k = sep.join(d.keys())",
+                    "k = x in zip(a, b)", "told(lambda k: range(k))", "k = sum(a, range(3))", "k = set(d.values())"):
+            self.assertEqual(rows_not_walked(ast.parse("k = 0\n" + row)), [2], row)
+
+    def test_ranges_walked_are_let(self):
+        for row in ("for x in range(3): pass", "a = [x for x in range(3)]", "a = {x: y for x, y in zip(b, c)}",
+                    "told(list(range(3)))", "a = tuple(range(3))", "a = sum(list(d.values()))", "a = max(range(3))",
+                    "for k, (x, y) in enumerate(zip(a, b)): pass", "for k in reversed(range(3)): pass",
+                    "a = sorted(d.items())", "a = ' '.join(d.keys())", "a = len(range(3))", "a = x in range(3)",
+                    "a = x not in d.keys()", "a = min(d.values(), default=0)",
+                    "a = [b for b in combinations(range(3), 2)]"):
+            self.assertEqual(rows_not_walked(ast.parse(row)), [], row)
 
     def test_names(self):
         every = set(dir(builtins))
